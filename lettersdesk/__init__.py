@@ -1,0 +1,1 @@
+"""Rules at a help desk: letters open tickets, and a book of rules works along."""
