@@ -1,7 +1,7 @@
 """Books of rules."""
 
 from lettersdesk.errors import NoDesks, NoRule
-from lettersdesk.kinds import are_desks, is_whole, is_rule
+from lettersdesk.kinds import are_desks, is_index, is_rule
 
 MOST_RULES = 8
 
@@ -68,4 +68,4 @@ class Book:
 
     def _has(self, index):
         """Whether this is the index of a rule."""
-        return is_whole(index) and 0 <= index < len(self._rules)
+        return is_index(index, len(self._rules))

@@ -1,4 +1,4 @@
-"""What is a name, a rule, a deed: questions about any value, answered by True or False."""
+"""What is a name, a rule, a deed: questions about any value, and the lists of all such values."""
 
 LETTERS = "abcdefghijklmnopqrstuvwxyz"
 LONGEST_NAME = 8
@@ -10,7 +10,7 @@ MOST_DAYS = 30
 STATUSES = ("new", "open", "waiting", "closed")
 EVENTS = ("letter", "answer", "day", "moved", "status", "replied")
 
-# Each form is a word, followed by the kinds of the values that stand behind it (see `_fits`).
+# Each form is a word, followed by the kinds of the values that stand behind it (see `_fits` and `_values`).
 TEST_FORMS = (
     ("status", "status", "wanted"),
     ("desk", "desk", "wanted"),
@@ -59,7 +59,7 @@ def is_rule(value, desks):
         return False
     event, tests, actions = value
     return (
-        _is_word(event, EVENTS)
+        is_word(event, EVENTS)
         and isinstance(tests, tuple)
         and len(tests) <= MOST_TESTS
         and all([_has_form(test, TEST_FORMS, desks) for test in tests])
@@ -70,8 +70,40 @@ def is_rule(value, desks):
 
 
 def is_deed(value, desks):
-    """Whether this is a deed with these desks."""
+    """Whether this is a deed with these desks, or with any desk if `desks` is None."""
     return _has_form(value, DEED_FORMS, desks)
+
+
+def wrong_deed(deeds, desks):
+    """The index of the first item that is not a deed (see `is_deed`), 0 for what is no list, None if all are deeds."""
+    if not isinstance(deeds, list):
+        return 0
+    for index, deed in enumerate(deeds):
+        if not is_deed(deed, desks):
+            return index
+    return None
+
+
+def is_index(value, many):
+    """Whether this is the index of one of so many rules."""
+    return is_whole(value) and 0 <= value < many
+
+
+def is_word(value, words):
+    """Whether this is a string, and one of these."""
+    # A value of another kind could call itself equal to a string.
+    return isinstance(value, str) and value in words
+
+
+def all_of(forms, desks):
+    """The list of all tuples with these desks that have one of the forms, in the order of the forms."""
+    found = []
+    for word, *kinds in forms:
+        made = [(word,)]
+        for kind in kinds:
+            made = [begun + (value,) for begun in made for value in _values(kind, desks)]
+        found.extend(made)
+    return found
 
 
 def _has_form(value, forms, desks):
@@ -87,14 +119,20 @@ def _has_form(value, forms, desks):
 def _fits(value, kind, desks):
     """Whether this is a value of the kind that a form names."""
     if kind == "status":
-        return _is_word(value, STATUSES)
+        return is_word(value, STATUSES)
     if kind == "desk":
-        return _is_word(value, desks)
+        return is_name(value) if desks is None else is_word(value, desks)
     if kind == "wanted":
         return isinstance(value, bool)
     return is_whole(value) and 1 <= value <= MOST_DAYS
 
 
-def _is_word(value, words):
-    # A value of another kind could call itself equal to a string.
-    return isinstance(value, str) and value in words
+def _values(kind, desks):
+    """The tuple of all values of the kind that a form names."""
+    if kind == "status":
+        return STATUSES
+    if kind == "desk":
+        return desks
+    if kind == "wanted":
+        return (True, False)
+    return tuple(range(1, MOST_DAYS + 1))

@@ -1,8 +1,8 @@
 """Histories of a ticket, and what goes wrong in them."""
 
 from lettersdesk.errors import NoDeed, NoTicket
-from lettersdesk.kinds import is_deed
-from lettersdesk.turns import turn_of
+from lettersdesk.kinds import wrong_deed
+from lettersdesk.turns import Works
 
 
 def play(book, deeds):
@@ -14,28 +14,27 @@ def faults(book, deeds):
     """The list of what goes wrong: tuples (kind, index of the deed)."""
     found = []
     for index, turn in enumerate(_turns(book, deeds)):
-        found.extend([(kind, index) for kind in turn.fault_kinds()])
+        found.extend([(kind, index) for kind in turn.kinds])
     return found
 
 
 def _turns(book, deeds):
     """The turns of the deeds, one after the other at the same ticket."""
     _check_deeds(book, deeds)
+    works = Works(book)
     turns = []
     ticket = None
     for deed in deeds:
-        turn = turn_of(book, ticket, deed)
-        ticket = turn.ticket_now()
+        turn = works.turn(ticket, deed)
+        ticket = turn.behind
         turns.append(turn)
     return turns
 
 
 def _check_deeds(book, deeds):
-    if not isinstance(deeds, list):
-        raise NoDeed(0)
-    for index, deed in enumerate(deeds):
-        if not is_deed(deed, book.desks()):
-            raise NoDeed(index)
+    wrong = wrong_deed(deeds, book.desks())
+    if wrong is not None:
+        raise NoDeed(wrong)
     # A ticket never goes away, so only the first deed can come before there is one.
     if len(deeds) > 0 and deeds[0][0] != "letter":
         raise NoTicket(0)

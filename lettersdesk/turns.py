@@ -1,138 +1,110 @@
-"""One deed at a ticket: its events in a row, and what the rules do at them."""
+"""Deeds at a ticket: what each one does itself, and what the rules of a book make of it."""
+
+from lettersdesk.effects import Effect
+from lettersdesk.kinds import EVENTS
 
 MOST_EVENTS = 50
 
 
 class Turn:
-    """A ticket while one deed is played for it, and what happens meanwhile."""
+    """One deed at a ticket, from the deed's own event on until no event is left.
 
-    def __init__(self, ticket, deed):
-        self.status, self.desk, self.answered, self.days, self.marked = ticket
-        self.deed = deed
-        self.row = []
+    `behind` is the ticket behind the deed, `kinds` are the kinds of what went wrong, as `faults` lists them.
+    """
+
+    def __init__(self, event, ticket):
+        self.event = event
+        self.behind = ticket
         self.acted = []
         self.sent = 0
         self.endless = False
         self.closed_by_rule = False
         self.sent_twice = False
-
-    def ticket_now(self):
-        """The ticket as a tuple."""
-        return (self.status, self.desk, self.answered, self.days, self.marked)
+        self.kinds = []
 
     def report(self):
         """What `play` tells of the deed."""
-        return (list(self.acted), self.sent, self.ticket_now(), self.endless)
+        return (list(self.acted), self.sent, self.behind, self.endless)
+
+    def run(self, works):
+        """Handle the events in their order until none is left, or too many were handled."""
+        events = [] if self.event is None else [self.event]
+        handled = 0
+        while handled < len(events) and handled < MOST_EVENTS:
+            effect = works.effect(events[handled], self.behind)
+            self.take(effect)
+            events.extend(effect.events)
+            handled += 1
+        self.endless = handled < len(events)
+        self.kinds = self.fault_kinds()
+
+    def take(self, effect):
+        """Add what the rules did at one event."""
+        self.behind = effect.ticket_now()
+        self.acted.extend(effect.acted)
+        self.sent += effect.sent
+        self.closed_by_rule = self.closed_by_rule or effect.closed_by_rule
+        self.sent_twice = self.sent_twice or effect.sent_twice
 
     def fault_kinds(self):
         """The kinds of what goes wrong in the deed, in the order in which `faults` lists them."""
+        status, _, answered, _, _ = self.behind
         kinds = []
         if self.endless:
             kinds.append("endless")
-        if self.closed_by_rule and self.status == "closed" and not self.answered:
+        if self.closed_by_rule and status == "closed" and not answered:
             kinds.append("unanswered")
         if self.sent_twice:
             kinds.append("twice")
-        if self.deed[0] == "letter" and len(self.acted) == 0:
+        if self.event == "letter" and len(self.acted) == 0:
             kinds.append("untouched")
         return kinds
 
-    def begin(self):
-        """What the deed itself does."""
-        word = self.deed[0]
+
+class Works:
+    """A book at work, which keeps in mind what its rules did at each event at each ticket."""
+
+    def __init__(self, book):
+        self.rulebook = book
+        self._rules_at = {event: [] for event in EVENTS}
+        for index, (event, tests, actions) in enumerate(book.rules()):
+            self._rules_at[event].append((index, tests, actions))
+        self._effects = {}
+
+    def effect(self, event, ticket):
+        """What the rules do at this event at this ticket."""
+        key = (event, ticket)
+        if key not in self._effects:
+            effect = Effect(ticket)
+            effect.try_rules(self._rules_at[event])
+            self._effects[key] = effect
+        return self._effects[key]
+
+    def begun(self, ticket, deed):
+        """What the deed itself does: its event or None, and the ticket; None stands for no ticket yet."""
+        if ticket is None:
+            ticket = ("new", self.rulebook.desks()[0], False, 0, False)
+        status, desk, answered, days, marked = ticket
+        word = deed[0]
+        if word == "letter":
+            return "letter", (status, desk, False, 0, marked)
+        if word == "answer":
+            return "answer", (status, desk, True, 0, marked)
+        if word == "day":
+            return "day", (status, desk, answered, days + 1, marked)
         if word == "hand":
-            self.move(self.deed[1])
-        elif word == "set":
-            self.set_status(self.deed[1])
-        elif word == "day":
-            self.days += 1
-            self.row.append("day")
-        else:
-            self.answered = word == "answer"
-            self.days = 0
-            self.row.append(word)
+            event = "moved" if desk != deed[1] else None
+            return event, (status, deed[1], answered, days, marked)
+        event = "status" if status != deed[1] else None
+        return event, (deed[1], desk, answered, days, marked)
 
-    def run(self, rules):
-        """Handle the events of the row until none is left, or too many were handled."""
-        handled = 0
-        while len(self.row) > 0 and handled < MOST_EVENTS:
-            event = self.row.pop(0)
-            self.handle(event, rules)
-            handled += 1
-        self.endless = len(self.row) > 0
-        self.row = []
+    def run(self, event, ticket):
+        """The turn of a deed that has done this by itself."""
+        turn = Turn(event, ticket)
+        turn.run(self)
+        return turn
 
-    def handle(self, event, rules):
-        """Try the rules in their order for one event."""
-        for index, (rule_event, tests, actions) in enumerate(rules):
-            # Each rule sees what the rules before it did, so its tests are not asked earlier.
-            if rule_event == event and all([self.holds(test) for test in tests]):
-                self.acted.append(index)
-                if self.carry_out(actions):
-                    return
-
-    def holds(self, test):
-        """Whether a test holds for the ticket as it is now."""
-        word = test[0]
-        if word == "status":
-            return (self.status == test[1]) == test[2]
-        if word == "desk":
-            return (self.desk == test[1]) == test[2]
-        if word == "answered":
-            return self.answered == test[1]
-        if word == "marked":
-            return self.marked == test[1]
-        return self.days >= test[1]
-
-    def carry_out(self, actions):
-        """Carry out the actions of a rule in order; whether one of them was "stop"."""
-        for action in actions:
-            word = action[0]
-            if word == "stop":
-                return True
-            if word == "status":
-                self.set_status_by_rule(action[1])
-            elif word == "desk":
-                self.move(action[1])
-            elif word == "reply":
-                self.send_reply()
-            else:
-                self.marked = action[1]
-        return False
-
-    def set_status(self, status):
-        """Give the ticket a status, which is an event if it had another one."""
-        if self.status != status:
-            self.status = status
-            self.row.append("status")
-
-    def set_status_by_rule(self, status):
-        """Set the status, and keep in mind that it was a rule, not a person, that closed the ticket."""
-        if status == "closed" and self.status != "closed":
-            self.closed_by_rule = True
-        self.set_status(status)
-
-    def move(self, desk):
-        """Hand the ticket over to a desk, which is an event if it was at another one."""
-        if self.desk != desk:
-            self.desk = desk
-            self.row.append("moved")
-
-    def send_reply(self):
-        """Send a standard reply."""
-        if self.answered:
-            self.sent_twice = True
-        self.answered = True
-        self.days = 0
-        self.sent += 1
-        self.row.append("replied")
-
-
-def turn_of(book, ticket, deed):
-    """The turn in which a deed was played for a ticket, or for None, as long as there is no ticket."""
-    if ticket is None:
-        ticket = ("new", book.desks()[0], False, 0, False)
-    turn = Turn(ticket, deed)
-    turn.begin()
-    turn.run(book.rules())
-    return turn
+    def turn(self, ticket, deed):
+        """The turn of a deed at a ticket, or at None as long as there is no ticket."""
+        event, begun = self.begun(ticket, deed)
+        return self.run(event, begun)

@@ -5,10 +5,7 @@ import unittest
 from lettersdesk.books import Book
 from lettersdesk.errors import NoDesks, NoRule
 
-from samples import DESKS, REPLY, STOP, Alike, Touchy, odd_values
-
-STATUSES = ("new", "open", "waiting", "closed")
-EVENTS = ("letter", "answer", "day", "moved", "status", "replied")
+from samples import DESKS, EVENTS, REPLY, STATUSES, STOP, Alike, Touchy, odd_values
 
 GOOD_TESTS = (
     [("status", status, wanted) for status in STATUSES for wanted in (True, False)]

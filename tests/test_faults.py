@@ -5,11 +5,8 @@ import unittest
 from lettersdesk.books import Book
 from lettersdesk.plays import faults, play
 
-from samples import DESKS, REPLY, STOP
+from samples import ANSWER, DAY, DESKS, LETTER, REPLY, STOP
 
-LETTER = ("letter",)
-ANSWER = ("answer",)
-DAY = ("day",)
 CLOSE = (("status", "closed"),)
 
 

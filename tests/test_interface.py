@@ -10,6 +10,17 @@ PACKAGE = pathlib.Path(__file__).resolve().parent.parent / "lettersdesk"
 
 FUNCTIONS = {
     "plays": {"play": ["book", "deeds"], "faults": ["book", "deeds"]},
+    "right": {
+        "first_fault": ["book"],
+        "first_of": ["book", "kind"],
+        "is_right": ["book"],
+        "idle": ["book"],
+        "acting": ["book", "index"],
+        "fewest_out": ["book"],
+        "states": ["book"],
+    },
+    "alike": {"told_apart": ["book", "other"], "loose": ["book"]},
+    "texts": {"book_text": ["book"], "read_book": ["text"], "deeds_text": ["deeds"], "read_deeds": ["text"]},
 }
 CLASSES = {
     "books": {
@@ -23,6 +34,20 @@ CLASSES = {
             "desks": ["self"],
             "without": ["self", "indexes"],
             "exchanged": ["self", "index"],
+        },
+    },
+    "live": {
+        "Desk": {
+            "__init__": ["self", "book"],
+            "do": ["self", "person", "deed"],
+            "day": ["self"],
+            "undo": ["self"],
+            "change": ["self", "book"],
+            "ticket": ["self", "person"],
+            "people": ["self"],
+            "at": ["self", "name"],
+            "__contains__": ["self", "person"],
+            "__len__": ["self"],
         },
     },
 }
@@ -55,6 +80,13 @@ class InterfaceTest(unittest.TestCase):
                 self.assertIn(name, defined(file))
                 for method, expected in methods.items():
                     self.assertEqual(parameters(vars(getattr(module, name))[method]), expected)
+
+    def test_properties_of_a_desk(self):
+        desk = vars(importlib.import_module("lettersdesk.live").Desk)
+        self.assertIsInstance(desk["replies"], property)
+        self.assertIsInstance(desk["book"], property)
+        self.assertIsNone(desk["replies"].fset)
+        self.assertIsNotNone(desk["book"].fset)
 
     def test_errors(self):
         module = importlib.import_module("lettersdesk.errors")

@@ -6,16 +6,9 @@ from lettersdesk.books import Book
 from lettersdesk.errors import NoDeed, NoTicket
 from lettersdesk.plays import faults, play
 
-from samples import DESKS, REPLY, STOP, odd_values
+from samples import ANSWER, DAY, DESKS, LETTER, REPLY, STOP, book_of, hand, odd_values, put
 
-LETTER = ("letter",)
-ANSWER = ("answer",)
-DAY = ("day",)
 NOTED = (("mark", True),)
-
-
-def book_of(*rules):
-    return Book(DESKS, rules)
 
 
 def last(book, *deeds):
@@ -28,14 +21,6 @@ def ticket(book, *deeds):
 
 def acted(book, *deeds):
     return last(book, *deeds)[0]
-
-
-def hand(desk):
-    return ("hand", desk)
-
-
-def put(status):
-    return ("set", status)
 
 
 class DeedsTest(unittest.TestCase):
